@@ -1,0 +1,1 @@
+"""Interruptruns: exact longest times of small programs that answer requests."""
