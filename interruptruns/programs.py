@@ -1,6 +1,7 @@
 """Bodies, sources of requests, and programs."""
 
 from interruptruns.errors import InvalidBody, InvalidName, InvalidNumber, InvalidProgram
+from interruptruns.places import flat_body
 from interruptruns.statements import FORMS, all_statements, tick_bounds
 from interruptruns.values import is_between, is_name
 
@@ -112,6 +113,11 @@ class Program:
         self.parts = (tuple(sources), background, tuple(tasks), tuple(counters))
         self.source_names = names["source"]
         self.bodies = bodies
+        # What every tick needs is found out once.
+        self.flat = {name: flat_body(bodies[name]) for name in bodies}
+        self.levels = {source.name: source.level for source in sources}
+        self.order = {name: at for part in ("source", "counter") for at, name in enumerate(names[part])}
+        self.edges = edge_ticks(sources)
 
     @property
     def sources(self):
@@ -166,6 +172,15 @@ def check_known(name, names):
     """Raise InvalidName unless the name is one of the names."""
     if not is_name(name) or name not in names:
         raise InvalidName(name)
+
+
+def edge_ticks(sources):
+    """Return the dict from the names and places of sources beside their bodies to the ticks there."""
+    found = {}
+    for source in sources:
+        found[source.name, "in"] = source.enter
+        found[source.name, "out"] = source.leave
+    return found
 
 
 def with_body(source, body):
