@@ -120,12 +120,16 @@ def can_request(program, state, choice):
 def parts_after(machine, ticks):
     """Return the list of the parts of the states that can be there after so many ticks."""
     known = Numbered(machine.start.parts)
+    following = {}
     here = [0]
     mark = here
     since = 0
     span = 1
     while ticks > 0:
-        here = known.all_behind(machine.program, here)
+        for at in here:
+            if at not in following:
+                following[at] = numbers_behind(machine.program, known, at)
+        here = sorted({to for at in here for to in following[at]})
         ticks -= 1
         since += 1
         # The same states come again soon. What lies between is not gone through
@@ -137,6 +141,12 @@ def parts_after(machine, ticks):
             since = 0
             span *= 2
     return [known.rows[at] for at in here]
+
+
+def numbers_behind(program, known, at):
+    """Return the list of the numbers of the states behind one."""
+    found = all_ticks(program, known.rows[at])
+    return [known.number_of(told[1]) for told in found]
 
 
 def sorted_states(rows):

@@ -3,7 +3,7 @@
 from interruptruns.errors import InvalidState, ParseError
 from interruptruns.lines import is_numeral
 from interruptruns.programs import BACKGROUND
-from interruptruns.values import is_between, is_integer
+from interruptruns.values import is_between, is_count
 
 MOST_MASK = 9
 MOST_OWED = 6
@@ -143,7 +143,7 @@ def are_two_counts(value):
     """Return whether the value is a tuple of two counts."""
     if not isinstance(value, tuple) or len(value) != 2:
         return False
-    return all([is_integer(one) and one >= 0 for one in value])
+    return all([is_count(one) for one in value])
 
 
 def are_frames(program, value):

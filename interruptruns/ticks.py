@@ -245,16 +245,23 @@ def all_ticks(program, parts):
 
     It is sorted by the choices.
     """
-    overs = (False, True) if parts[7][0] > 0 else (False,)
     found = []
     for requests in possible_requests(program, parts):
-        for over in overs:
-            ways = ()
-            while ways is not None:
-                choice, told = one_tick(program, parts, requests, over, ways)
-                if told is not None:
-                    found.append((choice, *told))
-                ways = ways_behind(choice[2])
+        found.extend(ticks_with(program, parts, requests))
+    return found
+
+
+def ticks_with(program, parts, requests):
+    """Return the part of the list of all ticks that has these requests, which are possible."""
+    overs = (False, True) if parts[7][0] > 0 else (False,)
+    found = []
+    for over in overs:
+        ways = ()
+        while ways is not None:
+            choice, told = one_tick(program, parts, requests, over, ways)
+            if told is not None:
+                found.append((choice, *told))
+            ways = ways_behind(choice[2])
     return found
 
 

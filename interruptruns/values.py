@@ -9,6 +9,11 @@ def is_integer(value):
     return isinstance(value, int) and not isinstance(value, bool)
 
 
+def is_count(value):
+    """Return whether the value is an integer that is not negative."""
+    return is_integer(value) and value >= 0
+
+
 def is_between(value, least, most):
     """Return whether the value is an integer within these bounds."""
     return is_integer(value) and least <= value <= most
