@@ -106,7 +106,8 @@ def greatest_way(edges, times, at):
 def endless(pairs, times):
     """Return what is known if there are waits without an end."""
     rows = pairs.known.rows
-    at = [at for at, time in enumerate(times) if time is None and rows[at][1] is not None][0]
+    lasting = [to for to, time in enumerate(times) if time is None and rows[to][1] is not None]
+    at = lasting[0]
     places = {}
     choices = []
     # From a wait without an end a step leads to one without an end.

@@ -84,7 +84,7 @@ def frame_text(frame):
 
 
 def listed_text(value, sign):
-    """Return the text of elements that are separated by a sign."""
+    """Return the text of numbers or names that are separated by a sign."""
     if not isinstance(value, (list, tuple)):
         return "?"
     return sign.join([element_text(one) for one in value]) or "-"
@@ -246,7 +246,7 @@ def read_number(word):
 
 
 def separated(word, sign):
-    """Return the list of the elements of a word; `-` has none."""
+    """Return the list of what a word separates; `-` has none."""
     return [] if word == "-" else word.split(sign)
 
 
