@@ -27,6 +27,12 @@ def is_question(program, value):
     return is_event(program, value[0]) and is_event(program, value[1])
 
 
+def check_event(program, pattern):
+    """Raise InvalidEvent unless the value is an event pattern for the program."""
+    if not is_event(program, pattern):
+        raise InvalidEvent(pattern)
+
+
 def check_question(program, question):
     """Raise InvalidEvent unless the value is a question for the program."""
     if not is_question(program, question):

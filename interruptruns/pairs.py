@@ -45,10 +45,7 @@ class Pairs:
         for choice, to, ends, begun in self.moves_from(state):
             if ahead is None:
                 self.put_pair((to, None), at, choice)
-                told = list(begun)
-            else:
-                told = [(0, *self.watch.follow(ends, ahead))]
-            for offset, end, behind in told:
+            for offset, end, behind in self.watch.waits_of(ahead, ends, begun):
                 if end is None:
                     edges.append((1 - offset, self.put_pair((to, behind), at, choice), choice))
                 else:
@@ -61,3 +58,9 @@ class Pairs:
         if at == len(self.origins):
             self.origins.append((origin, choice))
         return at
+
+
+def pair_order(pair):
+    """Return what tells the place of a pair (text, number ahead or None) in the order of pairs."""
+    text, ahead = pair
+    return text, -1 if ahead is None else ahead

@@ -85,17 +85,26 @@ def table_numbers(program, value):
     known = {}
     numbers = {}
     for pair, number in value.items():
-        if not isinstance(pair, tuple) or len(pair) != 2 or not is_count(number):
+        read = read_pair(program, pair, known)
+        if read is None or not is_count(number):
             return None
-        text, ahead = pair
-        if not isinstance(text, str) or not (ahead is None or is_count(ahead)):
-            return None
-        if text not in known:
-            known[text] = parts_of_text(program, text)
-        if known[text] is None:
-            return None
-        numbers[known[text], ahead] = number
+        numbers[read] = number
     return numbers
+
+
+def read_pair(program, value, known):
+    """Return the tuple of the parts of the state and the number ahead of a pair, or None if it is none.
+
+    The dict keeps the parts of the texts that were read already.
+    """
+    if not isinstance(value, tuple) or len(value) != 2:
+        return None
+    text, ahead = value
+    if not isinstance(text, str) or not (ahead is None or is_count(ahead)):
+        return None
+    if text not in known:
+        known[text] = parts_of_text(program, text)
+    return None if known[text] is None else (known[text], ahead)
 
 
 def parts_of_text(program, text):
@@ -108,14 +117,9 @@ def parts_of_text(program, text):
 
 def holds(watch, seen, behind, ahead, most, numbers):
     """Return whether no wait of a pair needs more ticks than these, by what is behind a step."""
-    ends, begun = seen
-    if ahead is None:
-        if (behind, None) not in numbers:
-            return False
-        told = begun
-    else:
-        told = [(0, *watch.follow(ends, ahead))]
-    for offset, end, left in told:
+    if ahead is None and (behind, None) not in numbers:
+        return False
+    for offset, end, left in watch.waits_of(ahead, *seen):
         if end is None:
             if (behind, left) not in numbers or 1 - offset + numbers[behind, left] > most:
                 return False

@@ -81,18 +81,26 @@ def recurrence(program, name):
     """Return the solution of the recurrence of a source, or None."""
     check_plain(program, name)
     own = program.source_of(name)
-    for source in program.sources:
-        if source.level >= own.level and whole_time(program, source) is None:
+    for source in above(program, own):
+        if time_of(program, source) is None:
             return None
-    return least_time(masked_ticks(program, own.level) + answer_ticks(own), above(program, own), own.gap)
+    return time_of(program, own)
 
 
-def whole_time(program, source):
-    """Return the time until a source has been left, or None if it is greater than its gap, or there is none."""
-    held = masked_ticks(program, source.level)
-    if held is None:
+def time_of(program, source):
+    """Return what answer_time does of a source at its level."""
+    return answer_time(masked_ticks(program, source.level), source, above(program, source))
+
+
+def answer_time(held, source, higher):
+    """Return the greatest time until the answer of a source below others, by their ticks alone.
+
+    Return None if the background can hold it for ever, or if the time until the
+    source has been left is greater than its gap, or there is none.
+    """
+    if held is None or least_time(held + handler_ticks(source), higher, source.gap) is None:
         return None
-    return least_time(held + handler_ticks(source), above(program, source), source.gap)
+    return least_time(held + answer_ticks(source), higher, source.gap)
 
 
 def least_time(ticks, sources, most):

@@ -11,10 +11,7 @@ def greatest_sums(edges):
     sums = [None for rows in edges]
     # The points are settled from the ends on, when all that follow them are.
     missing = [len(inner_points(rows)) for rows in edges]
-    ahead = [[] for rows in edges]
-    for at, rows in enumerate(edges):
-        for to in inner_points(rows):
-            ahead[to].append(at)
+    ahead = points_ahead(edges)
     ready = [at for at, many in enumerate(missing) if many == 0]
     while ready:
         at = ready.pop()
@@ -24,6 +21,18 @@ def greatest_sums(edges):
             if missing[before] == 0:
                 ready.append(before)
     return sums
+
+
+def points_ahead(edges):
+    """Return the list of the lists of the points from which edges lead to each point.
+
+    A point stands there once for each of its edges.
+    """
+    ahead = [[] for rows in edges]
+    for at, rows in enumerate(edges):
+        for to in inner_points(rows):
+            ahead[to].append(at)
+    return ahead
 
 
 def inner_points(rows):

@@ -3,6 +3,10 @@
 ASKED = ("request", "early", "timer", "raise")
 SOURCE_KINDS = ("request", "early", "timer", "raise", "lost", "enter", "leave", "answer", "asked")
 TASK_KINDS = ("post", "full", "begin", "end")
+EVENT_KINDS = (
+    "request", "early", "timer", "raise", "lost", "enter", "leave", "answer",
+    "post", "full", "begin", "end", "over",
+)
 
 
 def names_of_kind(program, kind):
@@ -59,6 +63,14 @@ class Watch:
         if self.place is None or at + 1 == len(events):
             return True
         return events[at + 1][1:] != ("lost", self.closing[1])
+
+    def waits_of(self, ahead, ends, begun):
+        """Return the list of what a tick does to the waits of a pair with this number ahead.
+
+        These are tuples (offset from which on it counts, offset of the end or
+        None, number ahead or None) for the wait, or for all that begin there.
+        """
+        return list(begun) if ahead is None else [(0, *self.follow(ends, ahead))]
 
     def follow(self, ends, ahead):
         """Return the offset of the end of a wait, None if it goes on, and then its number ahead.
