@@ -28,13 +28,13 @@ class Trial:
         return self
 
     def __exit__(self, kind, value, trace):
-        if self.accepted is not None and kind is None:
-            self.editor.past = self.past + (self.present,)
-            self.editor.future = ()
-        else:
+        if self.accepted is None or kind is not None:
             self.editor.past = self.past
             self.editor.present = self.present
             self.editor.future = self.future
+        else:
+            self.editor.past = self.past + (self.present,)
+            self.editor.future = ()
 
     def accept(self):
         """Let the program at the end of the block be put in place."""
@@ -124,7 +124,6 @@ def without_bodies(program):
 def grown(first, second, limit=LIMIT):
     """Return the list of (name, before, after) of the sources whose longest times are greater."""
     check_same(first, second)
-    check_limit(limit)
     found = []
     for name in first.names:
         before = longest(Machine(first), name, limit).ticks

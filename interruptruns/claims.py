@@ -134,7 +134,7 @@ def are_times_right(machine, claim):
 def begins_waits(machine, question, table):
     """Return whether a wait begins in a step from a state of a table."""
     watch = Watch(machine.program, question)
-    for text in sorted({text for text, ahead in table}):
+    for text, ahead in table:
         parts = parts_of_text(machine.program, text)
         for told in all_ticks(machine.program, parts):
             if watch.seen(parts, told[2])[1]:

@@ -137,9 +137,8 @@ def are_same(value, times):
     for name, time in value.items():
         if not isinstance(name, str) or name not in times:
             return False
-        if time is None or times[name] is None:
-            if time is not None or times[name] is not None:
-                return False
-        elif not is_integer(time) or time != times[name]:
+        if time is not None and not is_integer(time):
+            return False
+        if time != times[name]:
             return False
     return True

@@ -244,6 +244,23 @@ class IsMergingTests(unittest.TestCase):
                 if pair[1] is not None and (to[0], None) in led:
                     self.check(False, {**led, pair: (to[0], None)}, machine, question)
 
+    def test_waits_without_an_end_that_never_begin_again(self):
+        # The task begins once. Behind that the steps with the wait and those without it have the same effects.
+        machine = machine_of("counter c 1", source("a", 1, 2, "run 1; answer a"), task("job", "run 1"), background("when c; or; add c; post job; end; run 1"))
+        question = (("begin", "job"), ("full", "job"))
+        found = merge(machine, question)
+        waits = [pair for pair in found if pair[1] is not None]
+        self.assertTrue(waits)
+        for pair in waits:
+            self.assertIsNotNone(found[pair][1])
+            self.assertIn((pair[0], None), found)
+        self.check(True, found, machine, question)
+        without = {pair: (found[pair][0], None) for pair in waits}
+        self.check(False, {**found, **{pair: found[to] for pair, to in without.items()}}, machine, question)
+        with_waits = {(text, None): found[text, ahead] for text, ahead in waits}
+        self.check(False, {**found, **with_waits}, machine, question)
+        self.assertIsNone(merged_ticks(machine, question, found))
+
     def test_pairs_that_are_not_alike(self):
         rng = random.Random(4)
         places = sorted(self.same, key=second_merging.order)

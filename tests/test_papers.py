@@ -312,6 +312,14 @@ class IsTableTests(unittest.TestCase):
         for pair in pairs:
             self.check(False, machine, "a", {**exact, pair: exact[pair] - 1}, found.ticks)
 
+    def test_a_pair_with_a_wait_needs_none_without_one(self):
+        # Five are owed, so no run comes there, nor to the state behind it; the wait ends in between.
+        machine = machine_of(source("a", 1, 50, "run 1; answer a"))
+        found = longest(machine, "a")
+        text = "main:0:1:0:-/a:0:1:0:- 0 5 7 x - - 0,0"
+        for ahead, number, right in ((0, 1, True), (0, 9, True), (0, 0, False), (1, 9, False), (None, 9, False)):
+            self.check(right, machine, "a", {**found.table, (text, ahead): number}, found.ticks)
+
     def test_any_number_ahead_of_a_pair_of_patterns(self):
         # The next last event ends the wait, whatever number it has.
         machine = machine_of(source("a", 1, 3, "run 2; answer a"))
