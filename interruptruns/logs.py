@@ -12,6 +12,8 @@ from interruptruns.sums import greatest_sums
 from interruptruns.values import is_between, is_count, is_name
 from interruptruns.waiting import EVENT_KINDS
 
+OFFSETS = (0, 1)
+
 
 def log_of(run, kinds):
     """Return the log of a run, which has the events of these kinds."""
@@ -63,7 +65,7 @@ class Monitor:
 
     def __call__(self, events):
         """Go on by a tick with these events, and return whether some run has all that was given."""
-        if not isinstance(events, list) or not all([is_entry(one, self.kinds) for one in events]):
+        if not isinstance(events, list) or not all([is_told(one, self.kinds) for one in events]):
             raise InvalidLog(events)
         given = tuple(events)
         found = {}
@@ -107,8 +109,14 @@ def check_log(log, ticks, kinds):
 
 
 def is_entry(value, kinds):
-    """Return whether the value is a tuple of a count, one of the kinds, and a name."""
+    """Return whether the value is an entry of a log: a tuple of a count, one of the kinds, and a name."""
     if not isinstance(value, tuple) or len(value) != 3:
         return False
-    number, kind, name = value
-    return is_count(number) and isinstance(kind, str) and kind in kinds and is_name(name)
+    moment, kind, name = value
+    return is_count(moment) and isinstance(kind, str) and kind in kinds and is_name(name)
+
+
+def is_told(value, kinds):
+    """Return whether the value is an event of one tick: a tuple of an offset, one of the kinds, and a name."""
+    # Every offset could be a moment, too, but only these moments are offsets.
+    return is_entry(value, kinds) and value[0] in OFFSETS

@@ -216,12 +216,55 @@ class MonitorTests(unittest.TestCase):
             monitor.reset()
             self.assertIs(monitor(wrong), False)
 
-    def test_offsets_of_any_size(self):
-        for offset in (1, 2, 3, 50, 1000, 10 ** 29):
-            self.monitor.reset()
-            self.assertIs(self.monitor([(offset, "enter", "a")]), False)
+    def refuse(self, monitor, events):
+        """Give a monitor a list that is wrong, and look whether it stays as it was."""
+        before = monitor.possible
+        with self.assertRaises(InvalidLog) as caught:
+            monitor(events)
+        self.assertIs(caught.exception.value, events)
+        self.assertEqual(monitor.possible, before)
+
+    def test_no_other_offsets(self):
+        right = (0, "enter", "a")
+        for offset in (2, 3, 50, 1000, 10 ** 29, -1, -2, True, False, 0.0, 1.0, "0", "1", None, (0,), [1]):
+            wrong = (offset, "enter", "a")
+            for events in ([wrong], [right, wrong], [wrong, right], [right, wrong, right], [wrong, wrong]):
+                self.monitor.reset()
+                self.refuse(self.monitor, events)
+                # The next tick is answered as if nothing had been given.
+                self.assertIs(self.monitor([right]), True)
+                self.assertEqual(self.monitor.possible, 2)
+                self.refuse(self.monitor, events)
+                self.assertIs(self.monitor([(1, "answer", "a")]), True)
+                self.assertEqual(self.monitor.possible, 3)
+
+    def test_no_other_offsets_where_nothing_fits(self):
+        self.monitor([(0, "enter", "x")])
+        self.assertEqual(self.monitor.possible, 0)
+        self.refuse(self.monitor, [(2, "enter", "a")])
+        self.assertIs(self.monitor([(0, "enter", "a")]), False)
         self.monitor.reset()
-        self.assertIs(self.monitor([(10, "enter", "a"), (0, "enter", "a")]), False)
+        self.assertIs(self.monitor([(0, "enter", "a")]), True)
+
+    def test_no_other_offsets_of_any_kind(self):
+        monitor = Monitor(SLOW, KINDS)
+        for kind in KINDS:
+            for name in ("a", "b", "x"):
+                self.refuse(monitor, [(2, kind, name)])
+                self.refuse(monitor, [(0, "request", "a"), (0, "enter", "a"), (2, kind, name)])
+        self.assertIs(monitor([(0, "request", "a"), (0, "enter", "a")]), True)
+
+    def test_offsets_that_an_event_does_not_have(self):
+        # These are offsets, in whatever order and with whatever kinds they stand, but no tick has them.
+        for events in ([(1, "enter", "a")], [(0, "answer", "a")], [(1, "answer", "a"), (0, "enter", "a")]):
+            self.monitor.reset()
+            self.assertIs(self.monitor(events), False)
+            self.assertEqual(self.monitor.possible, 0)
+
+    def test_moments_of_logs_are_no_offsets(self):
+        log = [(0, "enter", "a"), (2, "answer", "a"), (5, "enter", "a"), (7, "answer", "a")]
+        self.assertIsInstance(fit(SLOW, log, 7, self.KINDS), list)
+        self.assertEqual(worst_after(SLOW, log[:3], 6, self.KINDS, "a"), 1)
 
     def test_names_that_the_program_does_not_have(self):
         for name in ("x", "main", "abcdefgh"):
@@ -256,6 +299,8 @@ class MonitorTests(unittest.TestCase):
             for many in range(ticks + 1):
                 states = {run.last.text for run in runs(machine, many) if self.seen(machine, run.choices, kinds) == told[:many]}
                 if many:
+                    if kinds:
+                        self.refuse(monitor, [*told[many - 1], (rng.randint(2, 9), rng.choice(kinds), "a")])
                     self.assertIs(monitor(list(told[many - 1])), bool(states))
                     seen["fits" if states else "not"] += 1
                 self.assertEqual(monitor.possible, len(states))
